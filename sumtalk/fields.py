@@ -48,6 +48,14 @@ def power_modulo(prime, number, exponent):
     return result
 
 
+def whole_power(number, exponent):
+    """The integer to the exponent, not modulo anything."""
+    result = 1
+    for _ in range(exponent):
+        result = result * number
+    return result
+
+
 class Field:
     """The numbers 0 to prime - 1, with arithmetic modulo the prime."""
 

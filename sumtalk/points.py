@@ -2,7 +2,7 @@
 
 from sumtalk.checks import check_at_most, check_field, check_numbers, check_range
 from sumtalk.errors import Repeated, TooLarge
-from sumtalk.fields import Field, check_prime
+from sumtalk.fields import Field, check_prime, whole_power
 from sumtalk.polys import MAX_COEFFICIENTS, Poly, constant
 
 MAX_PAIRS = 101
@@ -67,20 +67,12 @@ def through_values(prime, numbers):
     return through(prime, list(enumerate(numbers)))
 
 
-def check_row_count(prime, many):
-    """Raise TooLarge if there are more rows of so many numbers than a list may have."""
-    count = 1
-    for _ in range(many):
-        count = count * prime
-    if count > MAX_LISTED:
-        raise TooLarge()
-
-
 def all_rows(prime, many):
     """The list of all rows of so many numbers, in lexicographic order."""
     check_prime(prime)
     check_range(many, 0, MAX_COEFFICIENTS)
-    check_row_count(prime, many)
+    if whole_power(prime, many) > MAX_LISTED:
+        raise TooLarge()
     rows = [()]
     for _ in range(many):
         rows = [(*row, number) for row in rows for number in range(prime)]
