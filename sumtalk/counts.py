@@ -15,7 +15,7 @@ MAX_SEARCH_COST = 3000
 
 
 class Remembering:
-    """Asks a teller once for each row of coins; a counted teller answers from the coins alone."""
+    """Asks a teller once for equal rows of coins; a teller whose share is counted answers from the coins alone."""
 
     def __init__(self, inner):
         self.inner = inner
@@ -55,7 +55,7 @@ def check_degrees(degrees, most):
 
 
 def round_roots(prime, degree):
-    """The most roots that a polynomial of this degree has, if it is 0 not everywhere and has the right ends."""
+    """The roots that count for a round of this told degree."""
     check_prime(prime)
     check_degree(degree)
     return min(degree, prime - 1)

@@ -35,11 +35,17 @@ def check_alike(form, other):
         raise WrongPlaces()
 
 
+def weighted_form(forms, numbers):
+    """The sum of forms in the same places, each times its weight; only the sum itself may be too large."""
+    pairs = [(exponents, number * coefficient) for form, number in zip(forms, numbers)
+             for exponents, coefficient in form.terms]
+    return Form(forms[0].prime, forms[0].places, added_terms(forms[0].prime, pairs))
+
+
 def added_forms(form, other, sign):
     """The form plus sign times the other one."""
     check_alike(form, other)
-    pairs = list(form.terms) + [(exponents, sign * coefficient) for exponents, coefficient in other.terms]
-    return Form(form.prime, form.places, added_terms(form.prime, pairs))
+    return weighted_form([form, other], [1, sign])
 
 
 def powers_of(one, factor, degree):

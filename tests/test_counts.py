@@ -306,7 +306,8 @@ class Zeros(Case):
 
     def test_zero_form(self):
         for prime, degrees in ((2, []), (5, []), (2, [0]), (2, [1]), (2, [12]), (2, [0, 3, 1]), (3, [1, 2]),
-                               (3, [2, 5]), (5, [3, 2]), (5, [0, 12]), (7, [0, 0, 0]), (7, [6, 1]), (31, [12, 3]), (3, [2] * 5)):
+                               (3, [2, 5]), (5, [3, 2]), (5, [0, 12]), (7, [0, 0, 0]), (7, [6, 1]), (31, [12, 3]),
+                               (3, [2] * 5)):
             form = self.keeps(zero_form, prime, degrees)
             self.same((form.prime, form.places), (prime, len(degrees)))
             for point in all_points(prime, len(degrees)):
