@@ -15,6 +15,11 @@ def check_round(prime, poly, coin):
     check_number(prime, coin)
 
 
+def round_lines(rounds):
+    """The list of the lines that tell the rounds."""
+    return [f"{coin} {write_numbers(poly.coefficients)}" for poly, coin in rounds]
+
+
 class Journal:
     """A prime, a total and rounds, each a hand-in and a coin; nothing needs to fit together."""
 
@@ -65,8 +70,7 @@ class Journal:
 
     def text(self):
         """The written form."""
-        lines = [f"{coin} {write_numbers(poly.coefficients)}" for poly, coin in self.rounds]
-        return "\n".join([f"{self.prime} {self.total}"] + lines)
+        return "\n".join([f"{self.prime} {self.total}"] + round_lines(self.rounds))
 
 
 def read_pair(line):
