@@ -11,7 +11,7 @@ MAX_LAYERS = 4
 WIDTHS = (1, 2, 4)
 ADD = "add"
 MUL = "mul"
-KINDS = (ADD, MUL)
+KINDS = ("add", "mul")
 GATE_WORDS = 3
 INPUTS_WORD = "inputs"
 

@@ -67,16 +67,21 @@ def through_values(prime, numbers):
     return through(prime, list(enumerate(numbers)))
 
 
+def rows_made(prime, many):
+    """The list of all rows of so many numbers, in lexicographic order, however many rows there are."""
+    rows = [()]
+    for _ in range(many):
+        rows = [(*row, number) for row in rows for number in range(prime)]
+    return rows
+
+
 def all_rows(prime, many):
     """The list of all rows of so many numbers, in lexicographic order."""
     check_prime(prime)
     check_range(many, 0, MAX_COEFFICIENTS)
     if whole_power(prime, many) > MAX_LISTED:
         raise TooLarge()
-    rows = [()]
-    for _ in range(many):
-        rows = [(*row, number) for row in rows for number in range(prime)]
-    return rows
+    return rows_made(prime, many)
 
 
 def all_polys(prime, degree):
